@@ -1,0 +1,1 @@
+"""Wholeshares: dividing whole items in proportion to claims."""
