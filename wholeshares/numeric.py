@@ -1,6 +1,6 @@
 """Integers, counts and numbers: what they are, and arithmetic with numbers."""
 
-from math import gcd
+from math import gcd, lcm
 
 
 def is_int(value):
@@ -21,13 +21,43 @@ def is_number(value):
     return is_int(value)
 
 
+def is_positive(value):
+    """Return True if the value is a number greater than 0."""
+    return is_number(value) and as_pair(value)[0] > 0
+
+
+def as_pair(number):
+    """Return a number as a pair, which need not be in lowest terms."""
+    return number if isinstance(number, tuple) else (number, 1)
+
+
 def lowest(number):
     """Return a number as a pair in lowest terms."""
-    top, bottom = number if isinstance(number, tuple) else (number, 1)
+    top, bottom = as_pair(number)
     common = gcd(top, bottom)
     return (top // common, bottom // common)
 
 
+def quotient(pair, other_pair):
+    """Return a number of at least 0 divided by another one.
+
+    The bottom of the result is 0 if the divisor is 0.
+    """
+    return (pair[0] * other_pair[1], pair[1] * other_pair[0])
+
+
 def is_less(pair, other_pair):
-    """Return True if the number of a pair is less than that of the other pair."""
+    """Return True if the number of a pair is less than that of the other pair.
+
+    A positive top over the bottom 0 counts as greater than every number.
+    """
     return pair[0] * other_pair[1] < other_pair[0] * pair[1]
+
+
+def in_integers(numbers):
+    """Return integers that are in the same proportion as these numbers."""
+    pairs = [as_pair(number) for number in numbers]
+    common = 1
+    for _, bottom in pairs:
+        common = lcm(common, bottom)
+    return [top * (common // bottom) for top, bottom in pairs]
