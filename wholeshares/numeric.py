@@ -54,10 +54,22 @@ def is_less(pair, other_pair):
     return pair[0] * other_pair[1] < other_pair[0] * pair[1]
 
 
-def in_integers(numbers):
-    """Return integers that are in the same proportion as these numbers."""
-    pairs = [as_pair(number) for number in numbers]
+def common_bottom(pairs):
+    """Return the least integer of which the bottoms of all pairs are divisors."""
     common = 1
     for _, bottom in pairs:
         common = lcm(common, bottom)
+    return common
+
+
+def in_integers(numbers):
+    """Return integers that are in the same proportion as these numbers."""
+    pairs = [as_pair(number) for number in numbers]
+    common = common_bottom(pairs)
     return [top * (common // bottom) for top, bottom in pairs]
+
+
+def inverses(numbers):
+    """Return 1 divided by each of these positive numbers, as pairs."""
+    pairs = [as_pair(number) for number in numbers]
+    return [(bottom, top) for top, bottom in pairs]

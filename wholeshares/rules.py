@@ -2,7 +2,7 @@
 
 from wholeshares.errors import InputError, InvalidCount, InvalidHead, InvalidOffset, InvalidText
 from wholeshares.limits import MOST_HEAD
-from wholeshares.numeric import is_count, is_less, is_number, lowest
+from wholeshares.numeric import common_bottom, is_count, is_less, is_number, lowest
 from wholeshares.spelling import number_text, read_number
 
 
@@ -48,6 +48,10 @@ class Rule:
             raise InvalidOffset(offset)
         self.offset = lowest(offset)
         self.head = _lowest_head(self.offset, head)
+        # All marks are multiples of 1 / unit, so marks times the unit can be compared as integers.
+        self.unit = common_bottom([self.offset, *self.head])
+        self._whole_head = [top * (self.unit // bottom) for top, bottom in self.head]
+        self._whole_offset = self.offset[0] * (self.unit // self.offset[1])
         # No head reaches further, so rules with this start and this offset have all marks in common.
         self._start = tuple([self.mark(number) for number in range(MOST_HEAD)])
 
@@ -74,6 +78,12 @@ class Rule:
         if number < len(self.head):
             return self.head[number]
         return _plain_mark(self.offset, number)
+
+    def whole_mark(self, number):
+        """Return the mark with this number, a count, times the unit of the rule: an integer."""
+        if number < len(self._whole_head):
+            return self._whole_head[number]
+        return self._whole_offset + number * self.unit
 
     def __eq__(self, other):
         return isinstance(other, Rule) and self.offset == other.offset and self._start == other._start
