@@ -55,3 +55,47 @@ def items(chance):
         chance.randint(0, 9), chance.randint(0, 60), chance.randint(0, 300), chance.randint(0, 10 ** 6),
         chance.randint(0, 10 ** 18), 10 ** 18 - chance.randint(0, 9), 10 ** 18,
     ))
+
+
+def near(chance, value):
+    """Return a number that is a fraction itself or not far from it, as an integer or a pair, not always lowest."""
+    factor = chance.choice((1, 1, Fraction(9, 10), Fraction(11, 10), Fraction(1, 2), 2, 1 - Fraction(1, 10 ** 9)))
+    result = value * factor
+    more = chance.choice((1, 1, 2, 6))
+    if result.denominator == 1 and chance.random() < 0.5:
+        return result.numerator
+    return (result.numerator * more, result.denominator * more)
+
+
+def factors(chance, claimants):
+    return chance.choice((None, tuple(chance.choice((1, 2, (1, 3), (4, 6))) for _ in range(claimants))))
+
+
+def true_statement(chance, about, division_of, some_items=range(13)):
+    """Return a statement that these claims satisfy; `division_of(rule, claims, items)` returns a fair division."""
+    claimants = len(about)
+    c = [Fraction(*claim) if isinstance(claim, tuple) else Fraction(claim) for claim in about]
+    if chance.random() < 0.4:
+        i, j = chance.sample(range(claimants), 2)
+        ratio = c[i] / c[j]
+        low = ratio * chance.choice((1, Fraction(9, 10), Fraction(1, 3)))
+        high = ratio * chance.choice((1, Fraction(11, 10), 3))
+        return ("ratio", i, j, chance.choice((None, pair(low))), chance.choice((None, pair(high))))
+    some_factors = factors(chance, claimants)
+    weighed = c
+    if some_factors is not None:
+        weighed = [one * (Fraction(*f) if isinstance(f, tuple) else f) for one, f in zip(c, some_factors)]
+    some_rule = rule(chance, (0, 0, 1, 2, 8))
+    division = division_of(some_rule, tuple(pair(one) for one in weighed), chance.choice(some_items))
+    return ("fair", some_rule, division, some_factors)
+
+
+def statement(chance, claimants):
+    """Return any statement, which may be true of no claims."""
+    if chance.random() < 0.5:
+        i, j = chance.sample(range(claimants), 2)
+        ratio = Fraction(chance.randint(1, 6), chance.randint(1, 6))
+        return ("ratio", i, j, chance.choice((None, near(chance, ratio))), chance.choice((None, near(chance, ratio))))
+    division = tuple(chance.choice((0, 1, 1, 2, 3, 9)) for _ in range(claimants))
+    word = chance.choice(("fair", "unique"))
+    return (word, rule(chance, (0, 0, 1, 2, 8)), division, factors(chance, claimants))

@@ -19,6 +19,34 @@
 [True, None, (0, 1)]
 >>> [first_unkind(sample, middle), first_unkind(middle, sample), most_apart(Rule(0), Rule(1), 4)]
 [(0, 1), None, 1]
+
+>>> from wholeshares.parts import least_possible, least_sure, widest
+>>> [least_possible(Rule(1), 2, 3, 1), least_sure(Rule(1), 2, 3, 1), least_sure(Rule(1), 3, 3, 2)]
+[((1, 4), True), ((1, 4), False), ((1, 2), False)]
+>>> [least_possible(Rule(0), 3, 3, 1), least_sure(Rule(0), 3, 2, 1), widest(Rule(1), 2, 1)]
+[((0, 1), False), None, (((1, 2), True), ((1, 2), True))]
+
+>>> from wholeshares.known import consistent, count_bounds, part_bounds, possible_divisions, ratio_bounds, steps_of
+>>> from wholeshares.samples import sample_statements
+>>> known = (("fair", Rule(1), (2, 1), None),)
+>>> bad = known + (("ratio", 1, 0, 2, None),)
+>>> ratio_bounds(3, sample_statements(), 0, 2)
+((7, 3), True, (4, 1), True)
+>>> part_bounds(3, sample_statements(), 0)
+((7, 15), True, (12, 19), True)
+>>> [steps_of(2, known[0]), consistent(2, bad), count_bounds(2, known, Rule(1), 10, 0)]
+[((0, 1, (1, 1), False), (1, 0, (3, 1), False)), False, (5, 8)]
+>>> possible_divisions(2, known, Rule(0), 3)
+((2, 1), (1, 2))
+
+>>> from wholeshares.inquiries import Inquiry
+>>> inquiry = Inquiry(2)
+>>> two, one = ("ratio", 0, 1, 2, None), ("ratio", 0, 1, None, 1)
+>>> inquiry.change(("add", two), ("add", ("fair", Rule(1), (1, 1), None)), ("add", one))
+>>> first = inquiry.conflicts()
+>>> inquiry.undo()
+>>> [first, inquiry.conflicts(), len(inquiry), repr(inquiry)]
+[(0, 2), (), 2, 'Inquiry(2 claimants, 2 statements)']
 """
 
 import doctest
@@ -41,6 +69,33 @@ PARAMETERS = {
         "first_unkind": ["rule", "other_rule"],
         "most_apart": ["rule", "other_rule", "items"],
     },
+    "parts": {
+        "least_possible": ["rule", "claimants", "items", "count"],
+        "least_sure": ["rule", "claimants", "items", "count"],
+        "widest": ["rule", "claimants", "items"],
+    },
+    "known": {
+        "steps_of": ["claimants", "statement"],
+        "consistent": ["claimants", "statements"],
+        "some_claims": ["claimants", "statements"],
+        "contradiction": ["claimants", "statements"],
+        "ratio_bounds": ["claimants", "statements", "i", "j"],
+        "part_bounds": ["claimants", "statements", "i"],
+        "count_bounds": ["claimants", "statements", "rule", "items", "i"],
+        "possible_divisions": ["claimants", "statements", "rule", "items"],
+    },
+    "inquiries": {"attempt": ["inquiry", "act"]},
+}
+METHODS = {
+    ("rules", "Rule"): {
+        "__init__": ["self", "offset", "head"], "read": ["text"], "mark": ["self", "number"], "__str__": ["self"],
+        "__repr__": ["self"],
+    },
+    ("inquiries", "Inquiry"): {
+        "__init__": ["self", "claimants"], "add": ["self", "statement"], "drop": ["self", "place"],
+        "change": ["self", "deeds", "watch"], "undo": ["self"], "trial": ["self"], "conflicts": ["self"],
+        "__len__": ["self"], "__repr__": ["self"],
+    },
 }
 
 
@@ -61,6 +116,17 @@ class InterfaceTest(unittest.TestCase):
                     self.assertTrue(inspect.isfunction(function))
                     self.assertEqual(function.__module__, module.__name__)
                     self.assertEqual(list(inspect.signature(function).parameters), parameters)
+
+    def test_methods_stand_in_their_classes_with_their_parameters(self):
+        for (module_name, class_name), methods in METHODS.items():
+            module = importlib.import_module(f"wholeshares.{module_name}")
+            owner = getattr(module, class_name)
+            self.assertEqual(owner.__module__, module.__name__)
+            for name, parameters in methods.items():
+                with self.subTest(owner=class_name, method=name):
+                    self.assertIn(name, vars(owner))
+                    method = inspect.unwrap(getattr(owner, name))
+                    self.assertEqual(list(inspect.signature(method).parameters), parameters)
 
 
 if __name__ == "__main__":

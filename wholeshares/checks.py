@@ -1,8 +1,8 @@
 """Checks of arguments: each raises the error of its argument, or returns nothing."""
 
-from wholeshares.errors import InvalidClaims, InvalidCount, InvalidDivision, NotARule, TooManyItems
+from wholeshares.errors import InvalidClaimants, InvalidClaims, InvalidCount, InvalidDivision, NotARule, TooManyItems
 from wholeshares.limits import MOST_CLAIMANTS
-from wholeshares.numeric import is_count, is_positive
+from wholeshares.numeric import is_count, is_int, is_positive
 from wholeshares.rules import Rule
 
 
@@ -19,6 +19,12 @@ def check_claims(value):
     for index, claim in enumerate(value):
         if not is_positive(claim):
             raise InvalidClaims(index)
+
+
+def check_claimants(value, most=MOST_CLAIMANTS):
+    """Raise InvalidClaimants unless the value is a number of claimants from 2 to the most."""
+    if not is_int(value) or not 2 <= value <= most:
+        raise InvalidClaimants(value)
 
 
 def check_division(value, claimants):

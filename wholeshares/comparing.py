@@ -6,6 +6,7 @@ is m(k) / m(n - 1 - k); the borders ascend.
 """
 
 from wholeshares.checks import check_at_most, check_count, check_rule
+from wholeshares.dues import items_at_0
 from wholeshares.limits import MOST_COMPARED, MOST_HEAD
 from wholeshares.numeric import is_less, quotient
 
@@ -18,10 +19,6 @@ def _check_rules(rule, other_rule):
 def _ratio(rule, number, other_number):
     """Return the mark with one number divided by the mark with another one."""
     return quotient(rule.mark(number), rule.mark(other_number))
-
-
-def _starts_at_0(rule):
-    return rule.mark(0)[0] == 0
 
 
 def _difference(rule, other_rule, items):
@@ -42,7 +39,7 @@ def first_difference(rule, other_rule):
     """Return the least number of items, claims and a division where the rules differ, or None."""
     _check_rules(rule, other_rule)
     # A single item is due for both claimants at once if the first mark is 0, else first for the larger claim.
-    if _starts_at_0(rule) != _starts_at_0(other_rule):
+    if items_at_0(rule) != items_at_0(other_rule):
         return (1, ((1, 1), (2, 1)), (1, 0))
     # The marks with the numbers MOST_HEAD and MOST_HEAD + 1 stand behind all heads: their ratio tells different
     # offsets apart. If the offsets are equal, different marks have different ratios to the former one.

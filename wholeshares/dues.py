@@ -5,12 +5,12 @@ that are given by a fair division are those that are due first. Times are
 integers here: a mark times the unit of its rule, times the delay of a claimant.
 """
 
-from wholeshares.numeric import in_integers, inverses, is_less
+from wholeshares.numeric import as_inverse, in_integers, is_less
 
 
 def delays_of(claims):
     """Return integers in inverse proportion to the claims."""
-    return in_integers(inverses(claims))
+    return in_integers([as_inverse(claim) for claim in claims])
 
 
 def next_dues(rule, delays, counts):
@@ -21,6 +21,11 @@ def next_dues(rule, delays, counts):
 def last_dues(rule, delays, counts):
     """Return when the last items were due of those claimants who have any."""
     return [rule.whole_mark(count - 1) * delay for delay, count in zip(delays, counts) if count > 0]
+
+
+def items_at_0(rule):
+    """Return how many items of each claimant are due at the time 0, whatever the claims are: 1 or 0."""
+    return 1 if rule.whole_mark(0) == 0 else 0
 
 
 def who_is_due(dues):

@@ -69,7 +69,7 @@ def in_integers(numbers):
     return [top * (common // bottom) for top, bottom in pairs]
 
 
-def inverses(numbers):
-    """Return 1 divided by each of these positive numbers, as pairs."""
-    pairs = [as_pair(number) for number in numbers]
-    return [(bottom, top) for top, bottom in pairs]
+def as_inverse(number):
+    """Return 1 divided by a positive number, as a pair."""
+    top, bottom = as_pair(number)
+    return (bottom, top)

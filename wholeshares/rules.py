@@ -51,7 +51,7 @@ class Rule:
         # All marks are multiples of 1 / unit, so marks times the unit can be compared as integers.
         self.unit = common_bottom([self.offset, *self.head])
         self._whole_head = [top * (self.unit // bottom) for top, bottom in self.head]
-        self._whole_offset = self.offset[0] * (self.unit // self.offset[1])
+        self.whole_offset = self.offset[0] * (self.unit // self.offset[1])
         # No head reaches further, so rules with this start and this offset have all marks in common.
         self._start = tuple([self.mark(number) for number in range(MOST_HEAD)])
 
@@ -83,7 +83,7 @@ class Rule:
         """Return the mark with this number, a count, times the unit of the rule: an integer."""
         if number < len(self._whole_head):
             return self._whole_head[number]
-        return self._whole_offset + number * self.unit
+        return self.whole_offset + number * self.unit
 
     def __eq__(self, other):
         return isinstance(other, Rule) and self.offset == other.offset and self._start == other._start
