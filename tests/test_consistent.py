@@ -1,5 +1,6 @@
 """wholeshares.known: consistent, some_claims and contradiction."""
 
+import itertools
 import random
 import time
 import unittest
@@ -104,6 +105,35 @@ class ConsistentTest(Checks):
                     self.assertIs(self.check(n, statements), rest >= 1)
                     if rest < 1:
                         self.assertEqual(len(contradiction(n, statements)), n)
+
+    def test_a_ring_behind_a_chain_of_other_rings(self):
+        # The ratios along a chain are known exactly, so the way there and back is a ring that contradicts nothing.
+        for n in range(3, 7):
+            for names in itertools.permutations(range(n)):
+                chain = tuple(("ratio", i, j, (3, 2), (3, 2)) for i, j in zip(names[:-2], names[1:-1]))
+                for statement, expected in ((("ratio", names[-2], names[-1], 2, 1), False),
+                                            (("ratio", names[-2], names[-1], 2, 2), True)):
+                    if names[0] < names[-1] or n < 6:
+                        self.assertIs(consistent(n, chain + (statement,)), expected)
+                    if not expected:
+                        ring = contradiction(n, chain + (statement,))
+                        self.check_ring(n, chain + (statement,), ring)
+                        self.assertEqual({place for place, _ in ring}, {n - 2})
+
+    def test_few_steps_among_six_claimants(self):
+        chance = random.Random(17)
+        seen = {True: 0, False: 0}
+        for _ in range(500):
+            statements = []
+            for _ in range(12):
+                i, j = chance.sample(range(6), 2)
+                low, high = sorted((chance.choice((1, 2, 4, 8)), chance.choice((1, 2, 4, 8))))
+                statements.append(("ratio", i, j, *chance.choice(((low, high), (None, high), ((low, 4), None)))))
+            if chance.random() < 0.5:
+                division = chance.choice(((2, 1, 0, 0, 0, 0), (0, 0, 3, 0, 0, 1), (0, 1, 0, 0, 1, 0)))
+                statements[0] = ("unique", Rule(1), division, None)
+            seen[self.check(6, tuple(statements[:chance.randint(2, 12)]))] += 1
+        self.assertGreater(min(seen.values()), 100)
 
     def test_one_strict_step_decides(self):
         # c[0] = 3 * c[1] is just what both statements about divisions allow, if they are not strict.

@@ -47,6 +47,30 @@
 >>> inquiry.undo()
 >>> [first, inquiry.conflicts(), len(inquiry), repr(inquiry)]
 [(0, 2), (), 2, 'Inquiry(2 claimants, 2 statements)']
+
+>>> from wholeshares.certificates import certify_fair, certify_ratio, certify_statements
+>>> from wholeshares.checker import holds
+>>> fair = certify_fair(Rule(1), (53, 24, 23), 7)
+>>> known = certify_statements(3, sample_statements())
+>>> bound = certify_ratio(3, sample_statements(), 0, 1)
+>>> [fair, known[0][0], holds(known[0], known[1])]
+[(('fair', '| 1', ((53, 1), (24, 1), (23, 1)), (4, 2, 1)), ()), 'satisfied', True]
+>>> [bound[0][5], holds(bound[0], bound[1]), holds(("unkind", "| 1", "| 1/2", 0, 1), ())]
+[(3, 1), True, True]
+
+>>> from wholeshares.reports import division_table, mark_line
+>>> from wholeshares.samples import sample_rule
+>>> [division_table(Rule(1), (53, 24, 23), 7).split("\\n"), mark_line(sample_rule(), 3)]
+[['4 3.71', '2 1.68', '1 1.61'], '7/10 3/2 5/2']
+
+>>> from wholeshares.console import Console
+>>> console = Console(2)
+>>> [console.say("fair 2,1 | 1"), console.say("bounds 0 1"), console.say("least 1 0 2"), console.say("check")]
+['ok', '1 3', 'ok', 'conflict']
+>>> [console.say("undo"), console.say("drop 0"), console.say("bounds 1 0"), console.say("undo")]
+['ok', 'ok', '0 -', 'ok']
+>>> [console.say("unique 1,0 | 0"), console.say("check")]
+['ok', 'conflict']
 """
 
 import doctest
@@ -85,6 +109,15 @@ PARAMETERS = {
         "possible_divisions": ["claimants", "statements", "rule", "items"],
     },
     "inquiries": {"attempt": ["inquiry", "act"]},
+    "checker": {"holds": ["claim", "paper"]},
+    "certificates": {
+        "certify_fair": ["rule", "claims", "items"],
+        "certify_different": ["rule", "other_rule"],
+        "certify_unkind": ["rule", "other_rule"],
+        "certify_statements": ["claimants", "statements"],
+        "certify_ratio": ["claimants", "statements", "i", "j"],
+    },
+    "reports": {"division_table": ["rule", "claims", "items"], "mark_line": ["rule", "count"]},
 }
 METHODS = {
     ("rules", "Rule"): {
@@ -96,6 +129,7 @@ METHODS = {
         "change": ["self", "deeds", "watch"], "undo": ["self"], "trial": ["self"], "conflicts": ["self"],
         "__len__": ["self"], "__repr__": ["self"],
     },
+    ("console", "Console"): {"__init__": ["self", "claimants"], "say": ["self", "row"]},
 }
 
 

@@ -263,17 +263,21 @@ class ManyItemsTest(unittest.TestCase):
         # As if the items that are left were split alone: all marks of claimant 0 are plain ones here.
         for rule in RULES:
             first = 1 if mark(rule, 0) == 0 else 0
-            for claimants in (2, 3):
-                for left in range(first * (claimants - 1), 12):
+            marks = [mark(rule, k) for k in range(40)]
+            lasts = [Fraction(0)] + marks
+            for claimants in (2, 3, 4):
+                for left in list(range(first * (claimants - 1), 12)) + list(range(12, 33, 1 if claimants < 4 else 5)):
                     count = MOST - left
-                    sums = [
-                        sum(mark(rule, k) for k in split)
-                        for split in divisions(claimants - 1, left) if min(split) >= first
-                    ]
-                    last = mark(rule, count - 1)
+                    splits = [row for row in divisions(claimants - 1, left) if min(row) >= first]
+                    most = max(sum(marks[k] for k in row) for row in splits)
+                    least = min((sum(lasts[k] for k in row), 0 in [lasts[k] for k in row]) for row in splits)
+                    last, following = mark(rule, count - 1), mark(rule, count)
                     with self.subTest(rule=str(rule), claimants=claimants, left=left):
                         found = in_fractions(least_possible(rule, claimants, MOST, count))
-                        self.assertEqual(found, (last / (last + max(sums)), True))
+                        self.assertEqual(found, (last / (last + most), True))
+                        found = in_fractions(least_sure(rule, claimants, MOST, count + 1))
+                        expected = (following / (following + least[0]), least[1]) if least[0] else None
+                        self.assertEqual(found, expected)
 
     def test_bounds_agree_with_widest(self):
         chance = random.Random(6)

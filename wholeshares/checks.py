@@ -1,8 +1,9 @@
 """Checks of arguments: each raises the error of its argument, or returns nothing."""
 
 from wholeshares.errors import InvalidClaimants, InvalidClaims, InvalidCount, InvalidDivision, NotARule, TooManyItems
+from wholeshares.forms import is_number_of_claimants
 from wholeshares.limits import MOST_CLAIMANTS
-from wholeshares.numeric import is_count, is_int, is_positive
+from wholeshares.numeric import is_count, is_positive
 from wholeshares.rules import Rule
 
 
@@ -23,7 +24,7 @@ def check_claims(value):
 
 def check_claimants(value, most=MOST_CLAIMANTS):
     """Raise InvalidClaimants unless the value is a number of claimants from 2 to the most."""
-    if not is_int(value) or not 2 <= value <= most:
+    if not is_number_of_claimants(value, most):
         raise InvalidClaimants(value)
 
 

@@ -13,15 +13,11 @@ from wholeshares.errors import NotFair
 from wholeshares.limits import MOST_ITEMS
 
 
-def _check(rule, claims, division):
+def is_fair(rule, claims, division):
+    """Return True if the division is fair for these claims by this rule."""
     check_rule(rule)
     check_claims(claims)
     check_division(division, len(claims))
-
-
-def is_fair(rule, claims, division):
-    """Return True if the division is fair for these claims by this rule."""
-    _check(rule, claims, division)
     delays = delays_of(claims)
     # A claimant's own next item is never due before its last one, so it need not be left out.
     return max(last_dues(rule, delays, division), default=0) <= min(next_dues(rule, delays, division))
@@ -50,7 +46,6 @@ def fair_division(rule, claims, items):
 
 def next_claimants(rule, claims, division):
     """Return the claimants who can get the next item so that the division is still fair."""
-    _check(rule, claims, division)
     if not is_fair(rule, claims, division):
         raise NotFair(division)
     return tuple(who_is_due(next_dues(rule, delays_of(claims), division)))

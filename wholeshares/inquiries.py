@@ -2,10 +2,10 @@
 
 from wholeshares.checks import check_claimants
 from wholeshares.errors import Busy, InvalidDeeds, InvalidPlace, NotAnInquiry, NothingToUndo, TooManyStatements
+from wholeshares.forms import is_place, is_tuple_of, is_word
 from wholeshares.knowledge import Knowledge
 from wholeshares.limits import MOST_STATEMENTS
-from wholeshares.numeric import is_int
-from wholeshares.statements import check_statement, is_tuple_of, is_word, steps_in
+from wholeshares.statements import check_statement, steps_in
 
 
 class Moment:
@@ -61,7 +61,7 @@ class Inquiry:
         self._replace((*self.statements, statement))
 
     def _drop(self, place):
-        if not is_int(place) or not 0 <= place < len(self.statements):
+        if not is_place(place, len(self.statements)):
             raise InvalidPlace(place)
         self._replace(self.statements[:place] + self.statements[place + 1:])
 

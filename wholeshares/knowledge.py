@@ -1,7 +1,7 @@
 """What statements tell of the ratios of claims: the best bounds, or a ring that contradicts the statements."""
 
 from wholeshares.numeric import is_less, lowest, quotient
-from wholeshares.statements import contradicts, product_of, steps_in
+from wholeshares.statements import contradicts, steps_in
 
 
 class Bound:
@@ -31,21 +31,18 @@ def _is_tighter(bound, other):
 
 
 def _simple_ring(path):
-    """Return a part of a contradicting ring that is such a ring, too, and comes to no claimant twice.
+    """Return the part of a ring that comes back to a claimant first: it comes to no claimant twice.
 
-    If a ring consists of several rings, their products have the product of the
-    whole ring as their product: one of them at least contradicts the statements.
+    The ring leads to a claimant and back, and the part contains this claimant,
+    as there and back by themselves come to no claimant twice. Without the part
+    the ring is one that was looked at before, and did not contradict the
+    statements. If the whole ring does, it is because of the part.
     """
-    kept = []
-    for place, step in path:
-        kept.append((place, step))
-        starts = [at for at, (_, earlier) in enumerate(kept) if earlier[0] == step[1]]
-        if starts:
-            part = kept[starts[0]:]
-            product, strict = product_of([some_step for _, some_step in part])
-            if contradicts(product, strict):
-                return tuple(part)
-            kept = kept[:starts[0]]
+    starts = []
+    for end, (_, step) in enumerate(path):
+        starts.append(step[0])
+        if step[1] in starts:
+            return path[starts.index(step[1]):end + 1]
     return path
 
 
@@ -67,7 +64,7 @@ class Knowledge:
     def _add(self, place, step):
         i, j, factor, strict = step
         bound = Bound(factor, strict, ((place, step),))
-        if factor[0] == 0 and self.ring is None:
+        if factor[0] == 0:
             self.ring = bound.path
         if _is_tighter(bound, self._bounds[i][j]):
             self._bounds[i][j] = bound

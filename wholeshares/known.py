@@ -1,12 +1,14 @@
 """Conclusions from statements about unknown claims."""
 
 from wholeshares.checks import check_at_most, check_claimants, check_count, check_rule
+from wholeshares.dues import items_at_0
 from wholeshares.errors import Inconsistent, InvalidClaimant
+from wholeshares.forms import is_claimant
 from wholeshares.knowledge import claims_by, knowledge_of
 from wholeshares.limits import MOST_ITEMS, MOST_LISTED
 from wholeshares.numeric import as_inverse, lowest
 from wholeshares.outcomes import Outcomes, greatest_count, least_count
-from wholeshares.statements import check_known, check_statement, is_claimant, steps_in
+from wholeshares.statements import check_known, check_statement, steps_in
 
 
 def _check_claimant(value, claimants):
@@ -95,9 +97,9 @@ def count_bounds(claimants, statements, rule, items, i):
     _check_claimant(i, claimants)
     check_at_most(items, MOST_ITEMS)
     knowledge = _consistent_knowledge(claimants, statements)
-    if items <= claimants and rule.whole_mark(0) == 0:
-        # All first items are due at once, whatever the claims are.
-        return (1 if items == claimants else 0, min(items, 1))
+    if items < claimants * items_at_0(rule):
+        # The first items of all claimants are due at once, so anyone may have one of them or none.
+        return (0, min(items, 1))
     return (least_count(knowledge, rule, items, i), greatest_count(knowledge, rule, items, i))
 
 

@@ -21,7 +21,7 @@ def _other_claimants(knowledge, i):
 
 
 def least_count(knowledge, rule, items, i):
-    """Return the least count of a claimant; there are more items than claimants, or the first mark is not 0.
+    """Return the least count of a claimant; there are as many items as claimants, or the first mark is not 0.
 
     All other claims are as large as possible, or nearly so if the bound is
     strict: then their items are due a little later.
@@ -33,7 +33,7 @@ def least_count(knowledge, rule, items, i):
 
 
 def greatest_count(knowledge, rule, items, i):
-    """Return the greatest count of a claimant; there are more items than claimants, or the first mark is not 0.
+    """Return the greatest count of a claimant; there are as many items as claimants, or the first mark is not 0.
 
     All other claims are as small as possible, or nearly so if the bound is
     strict: then their items are due a little earlier. Those whose claims can be
@@ -47,11 +47,11 @@ def greatest_count(knowledge, rule, items, i):
 def _is_possible(knowledge, rule, pair, counts):
     """Return True if the first one of a pair of claimants may have its count beside that of the other one."""
     last = rule.whole_mark(counts[0] - 1) if counts[0] > 0 else 0
-    following = rule.whole_mark(counts[1])
     if last == 0:
         return True
+    following = rule.whole_mark(counts[1])
     bound = knowledge.bound(pair[1], pair[0])
-    if following == 0 or bound is None:
+    if bound is None:
         return following > 0
     limit = (following * bound.value[0], bound.value[1])
     return is_less((last, 1), limit) or (not bound.strict and not is_less(limit, (last, 1)))

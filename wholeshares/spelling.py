@@ -27,7 +27,8 @@ def _read_int(digits):
     return integer
 
 
-def _is_digits(text):
+def is_digits(text):
+    """Return True if the text consists of the digits 0 to 9."""
     # Python takes some other characters for digits, too.
     return text.isascii() and text.isdigit()
 
@@ -42,7 +43,7 @@ def number_text(pair):
 def read_number(text):
     """Return the pair with exactly this text, or None."""
     parts = text.split("/")
-    if len(parts) > 2 or not all([_is_digits(part) for part in parts]):
+    if len(parts) > 2 or not all([is_digits(part) for part in parts]):
         return None
     number = _read_int(parts[0])
     if len(parts) == 2:

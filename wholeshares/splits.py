@@ -6,50 +6,51 @@ only the counts in the head make a split better than another one.
 """
 
 
-def _with_another_count(gains, best):
-    """Return the greatest sums of gains for one count more, by the sum of the counts."""
-    peaks = []
-    for gain in best:
-        peaks.append(max(gain, peaks[-1]) if peaks else gain)
-    sums = []
-    for total in range(len(best)):
-        options = [best[total - count] + gain for count, gain in enumerate(gains[:total + 1])]
-        # A count behind the list has no gain, and leaves any smaller sum to the others.
-        if total >= len(gains):
-            options.append(peaks[total - len(gains)])
-        sums.append(max(options))
-    return sums
+def _moved(sums, count, gain, filler):
+    """Return the sums of gains with one count and its gain more; those of totals below the count are the filler."""
+    return ([filler] * count + [one + gain for one in sums])[:len(sums)]
 
 
-def _greatest_gains(gains, many, most):
-    """Return the greatest sums of gains that so many counts have, by the sum of the counts.
-
-    A count has the gain at its place in the list, and behind the list it has
-    none. The results end with that for `most`, or with the one that holds for
-    all greater sums, too: then one count at least stands behind the list.
-    """
-    length = min(most, len(gains) * many) + 1
-    best = (gains + [0] * length)[:length]
-    for _ in range(many - 1):
-        best = _with_another_count(gains, best)
-    return best
+def _with_another_count(gains, sums):
+    """Return the greatest sums of gains for one count more, by the total of the counts."""
+    # If some count is in the list, let it be the new one. If none is, the new one may be the first behind the list.
+    choices = [*gains, 0]
+    filler = min(sums) + min(choices)
+    rows = [_moved(sums, count, gain, filler) for count, gain in enumerate(choices)]
+    return [max(column) for column in zip(*rows)]
 
 
 class Splits:
     """All splits of items, up to a number of them, into the counts of some claimants.
 
     Each count k has a value: values[k], and behind this list start + k * step.
+    What it has more than that is its gain, so a count behind the list has none.
     """
 
     def __init__(self, values, start, step, many, most):
-        gains = [value - start - count * step for count, value in enumerate(values)]
-        self._gains = _greatest_gains(gains, many, most)
+        self._gains = [value - start - count * step for count, value in enumerate(values)]
         self._start = start * many
         self._step = step
+        self._many = many
+        self._most = most
+        self._sums = []
+
+    def _greatest_gain(self, items):
+        """Return the greatest sum of gains in a split of these items."""
+        limit = len(self._gains) * self._many
+        if items >= limit:
+            # One count at least stands behind the list, and may be so far behind it that the others are free.
+            return (self._many - 1) * max([0, *self._gains])
+        if not self._sums:
+            length = min(self._most, limit - 1) + 1
+            self._sums = (self._gains + [0] * length)[:length]
+            for _ in range(self._many - 1):
+                self._sums = _with_another_count(self._gains, self._sums)
+        return self._sums[items]
 
     def greatest(self, items):
         """Return the greatest sum of values in a split of these items."""
-        return self._start + items * self._step + self._gains[min(items, len(self._gains) - 1)]
+        return self._start + items * self._step + self._greatest_gain(items)
 
 
 def next_mark_splits(rule, least, many, most):

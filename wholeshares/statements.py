@@ -6,34 +6,14 @@ than that if it is strict.
 
 from wholeshares.checks import check_claimants
 from wholeshares.errors import InvalidStatements
+from wholeshares.forms import are_positive, is_claimant, is_division, is_tuple_of, is_word
 from wholeshares.limits import MOST_STATEMENTS
-from wholeshares.numeric import as_inverse, as_pair, is_count, is_int, is_less, is_positive, lowest, quotient
+from wholeshares.numeric import as_inverse, as_pair, is_less, is_positive, lowest, quotient
 from wholeshares.rules import Rule
-
-
-def is_tuple_of(value, length):
-    """Return True if the value is a tuple of this length."""
-    return isinstance(value, tuple) and len(value) == length
-
-
-def is_word(value, words):
-    """Return True if the value is one of these strings."""
-    return isinstance(value, str) and value in words
-
-
-def is_claimant(value, claimants):
-    """Return True if the value is one of so many claimants."""
-    return is_int(value) and 0 <= value < claimants
 
 
 def _is_bound(value):
     return value is None or is_positive(value)
-
-
-def _are_factors(value, claimants):
-    if value is None:
-        return True
-    return is_tuple_of(value, claimants) and all([is_positive(factor) for factor in value])
 
 
 def _is_about_division(value, claimants):
@@ -41,9 +21,7 @@ def _is_about_division(value, claimants):
     word, rule, division, factors = value
     if not is_word(word, ("fair", "unique")) or not isinstance(rule, Rule):
         return False
-    if not is_tuple_of(division, claimants) or not all([is_count(count) for count in division]):
-        return False
-    return _are_factors(factors, claimants)
+    return is_division(division, claimants) and (factors is None or are_positive(factors, claimants))
 
 
 def _is_about_ratio(value, claimants):
