@@ -30,22 +30,6 @@ def _is_tighter(bound, other):
     return bound.strict and not other.strict and not is_less(other.value, bound.value)
 
 
-def _simple_ring(path):
-    """Return the part of a ring that comes back to a claimant first: it comes to no claimant twice.
-
-    The ring leads to a claimant and back, and the part contains this claimant,
-    as there and back by themselves come to no claimant twice. Without the part
-    the ring is one that was looked at before, and did not contradict the
-    statements. If the whole ring does, it is because of the part.
-    """
-    starts = []
-    for end, (_, step) in enumerate(path):
-        starts.append(step[0])
-        if step[1] in starts:
-            return path[starts.index(step[1]):end + 1]
-    return path
-
-
 class Knowledge:
     """The tightest bounds of all ratios of claims, or `ring`, a ring that contradicts the statements, else None."""
 
@@ -81,7 +65,8 @@ class Knowledge:
                     if _is_tighter(joined, self._bounds[i][j]):
                         self._bounds[i][j] = joined
                 elif contradicts(joined.value, joined.strict):
-                    self.ring = _simple_ring(joined.path)
+                    # It comes to no claimant twice: else it would consist of rings that were looked at before.
+                    self.ring = joined.path
                     return
 
     def bound(self, i, j):
