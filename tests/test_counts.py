@@ -210,6 +210,17 @@ class CountBoundsTest(unittest.TestCase):
                 found = tuple(count_bounds(2, statements, Rule(1), items, i) for i in (0, 1))
                 self.assertEqual(found, expected)
 
+    def test_strict_steps_to_some_of_the_others(self):
+        # Only the bound of claimant 2 is strict; by Rule(1) the items are due at 1, 2, 3, .. for claimant 0, at
+        # 2, 4, 6, .. for claimant 1 and at 3/2, 3, 9/2, .. for claimant 2, whose items are a little later or earlier.
+        factors = (1, 1, (3, 2))
+        most = (("ratio", 1, 0, None, (1, 2)), ("unique", Rule(1), (1, 0, 0), factors))
+        least = (("ratio", 1, 0, (1, 2), None), ("unique", Rule(1), (0, 0, 1), factors))
+        found = [count_bounds(3, most, Rule(1), items, 0)[0] for items in range(1, 14)]
+        self.assertEqual(found, [1, 1, 1, 2, 3, 3, 3, 4, 4, 5, 5, 6, 6])
+        found = [count_bounds(3, least, Rule(1), items, 0)[1] for items in range(1, 14)]
+        self.assertEqual(found, [1, 1, 2, 2, 2, 3, 4, 4, 4, 5, 5, 6, 6])
+
     def test_without_bounds(self):
         for n in (2, 3, 6):
             for items in (0, 1, n, n + 1, 40, MOST):
